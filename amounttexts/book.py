@@ -51,6 +51,9 @@ class Habit:
         self.coins = numbers[5]
         self.extras = numbers[6]
 
+    def numbers(self):
+        return [self.group, self.kind, self.must, self.point, self.signs, self.coins, self.extras]
+
     def can_be(self):
         if self.group == self.point:
             return False
@@ -87,6 +90,12 @@ class Style:
 # The object on which a line's calls are made: coins by their numbers, habits and styles in order.
 class Book:
     def __init__(self):
+        self.coins = {}
+        self.habits = []
+        self.styles = []
+
+    # All is as it was when the object was new.
+    def forget_all(self):
         self.coins = {}
         self.habits = []
         self.styles = []

@@ -1,9 +1,11 @@
 """The calls of a line, handed in as one list, and their answers, given back as one list."""
 
-from amounttexts.asking import compare, every, follow, read, rewrite, show
+from amounttexts.asking import add_up, column, compare, count_all, every, follow, habit_as_told, normal, read, rewrite
+from amounttexts.asking import show, units
 from amounttexts.book import Book
+from amounttexts.reckoning import expand, reckon
 from amounttexts.refusals import OUT_OF_RANGE
-from amounttexts.telling import tell_coin, tell_habit, tell_style
+from amounttexts.telling import clear_all, tell_coin, tell_habit, tell_style
 
 COIN = 0
 HABIT = 1
@@ -13,6 +15,16 @@ FOLLOW = 4
 EVERY = 5
 SHOW = 6
 REWRITE = 7
+COMPARE = 8
+UNITS = 9
+SUM = 10
+COLUMN = 11
+RECKON = 12
+NORMAL = 13
+EXPAND = 14
+COUNTS = 15
+TOLD = 16
+CLEAR = 17
 
 # By a call's place: the least and the greatest that each of its numbers may be.
 RANGES = (
@@ -25,6 +37,15 @@ RANGES = (
     ((0, 7), (0, 6)),
     ((0, 7), (0, 7)),
     ((0, 7), (0, 7)),
+    ((0, 7),),
+    ((0, 7),),
+    (),
+    ((0, 5),),
+    ((0, 7),),
+    (),
+    (),
+    ((0, 7),),
+    (),
 )
 # A habit's group and point may not be all that lies within their ranges.
 GROUPS = (0, 32, 39, 44, 46)
@@ -44,26 +65,56 @@ def are_in_range(place, numbers):
     return place != HABIT or (numbers[0] in GROUPS and numbers[3] in POINTS)
 
 
-def answer_to(book, place, numbers, lists):
-    if not are_in_range(place, numbers) or not all([is_text(told) for told in lists]):
-        return [OUT_OF_RANGE]
+def answer_of_the_book(book, place, numbers, lists):
     if place == COIN:
         return tell_coin(book, numbers, lists)
     if place == HABIT:
         return tell_habit(book, numbers)
     if place == STYLE:
         return tell_style(book, numbers)
+    if place == COUNTS:
+        return count_all(book)
+    if place == TOLD:
+        return habit_as_told(book, numbers[0])
+    return clear_all(book)
+
+
+def answer_with_values(book, place, numbers, lists):
+    if place == SHOW:
+        return show(book, numbers[0], numbers[1], lists[0])
+    if place == RECKON:
+        return reckon(numbers[0], lists)
+    return expand(lists[0])
+
+
+def answer_with_texts(book, place, numbers, lists):
     if place == READ:
         return read(book, numbers[0], lists[0])
     if place == FOLLOW:
         return follow(book, numbers[0], lists[0])
     if place == EVERY:
         return every(book, lists[0])
-    if place == SHOW:
-        return show(book, numbers[0], numbers[1], lists[0])
     if place == REWRITE:
         return rewrite(book, numbers[0], numbers[1], lists[0])
-    return compare(book, numbers, lists)
+    if place == COMPARE:
+        return compare(book, numbers, lists)
+    if place == UNITS:
+        return units(book, numbers[0], lists[0])
+    if place == SUM:
+        return add_up(book, numbers[0], lists)
+    if place == COLUMN:
+        return column(book, lists)
+    return normal(book, numbers[0], lists[0])
+
+
+def answer_to(book, place, numbers, lists):
+    if not are_in_range(place, numbers) or not all([is_text(told) for told in lists]):
+        return [OUT_OF_RANGE]
+    if place in (COIN, HABIT, STYLE, COUNTS, TOLD, CLEAR):
+        return answer_of_the_book(book, place, numbers, lists)
+    if place in (SHOW, RECKON, EXPAND):
+        return answer_with_values(book, place, numbers, lists)
+    return answer_with_texts(book, place, numbers, lists)
 
 
 # The list that stands behind its length, which stands at this index.

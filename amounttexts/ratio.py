@@ -20,6 +20,26 @@ def is_less(one, two):
     return one[0] * two[1] < two[0] * one[1]
 
 
+def plus(one, two):
+    return lowest((one[0] * two[1] + two[0] * one[1], one[1] * two[1]))
+
+
+# The first value less the second.
+def minus(one, two):
+    return plus(one, (-two[0], two[1]))
+
+
+def times(one, two):
+    return lowest((one[0] * two[0], one[1] * two[1]))
+
+
+# The first value divided by the second, which isn't 0.
+def divided(one, two):
+    # The lower number stays above 0: a sign goes to the upper one.
+    turned = (two[1], two[0]) if two[0] > 0 else (-two[1], -two[0])
+    return times(one, turned)
+
+
 # The one text of a value in lowest terms.
 def one_form(value):
     text = digits_of(abs(value[0]))

@@ -1,4 +1,4 @@
-"""The calls that tell an object something: coin, habit, style. Each gives its answer as a list."""
+"""The calls that change an object: coin, habit, style, clear. Each gives its answer as a list."""
 
 from amounttexts.book import MOST_KEPT, Coin, Habit, Style
 from amounttexts.refusals import ALL_TOLD, CANNOT_BE, NO_SUCH, TAKEN
@@ -59,3 +59,8 @@ def tell_style(book, numbers):
         return [ALL_TOLD]
     book.styles.append(told)
     return [0, len(book.styles) - 1]
+
+
+def clear_all(book):
+    book.forget_all()
+    return [0]

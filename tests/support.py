@@ -2,7 +2,8 @@
 
 from amounttexts.desk import answers
 
-COIN, HABIT, STYLE, READ, FOLLOW, EVERY, SHOW, REWRITE, COMPARE = range(9)
+(COIN, HABIT, STYLE, READ, FOLLOW, EVERY, SHOW, REWRITE, COMPARE, UNITS, SUM, COLUMN, RECKON, NORMAL, EXPAND, COUNTS,
+ TOLD, CLEAR) = range(18)
 
 
 def code(text):
@@ -57,6 +58,42 @@ def compare(one, two, text, second):
     return call(COMPARE, [one, two], text, second)
 
 
+def units(by, text):
+    return call(UNITS, [by], text)
+
+
+def add_up(by, *texts):
+    return call(SUM, [by], *texts)
+
+
+def column(*texts):
+    return call(COLUMN, [], *texts)
+
+
+def reckon(what, one, two):
+    return call(RECKON, [what], one, two)
+
+
+def normal(by, text):
+    return call(NORMAL, [by], text)
+
+
+def expand(value):
+    return call(EXPAND, [], value)
+
+
+def counts():
+    return call(COUNTS, [])
+
+
+def told_habit(by):
+    return call(TOLD, [by])
+
+
+def clear():
+    return call(CLEAR, [])
+
+
 def run(*calls):
     """The answers of a line, one list for each call."""
     given = answers([number for one in calls for number in one])
@@ -74,7 +111,7 @@ def last(*calls):
 
 
 def said(answer):
-    """An answer of read as a list of (coin, value); a refusal as its number."""
+    """An answer of read or sum as a list of (coin, value); a refusal as its number."""
     if answer[0] < 0:
         assert len(answer) == 1
         return answer[0]
@@ -95,3 +132,17 @@ def told(answer):
         return answer[0]
     assert answer[1] == len(answer) - 2
     return words(answer[2:])
+
+
+def rows(answer):
+    """An answer that is rows alone as texts; a refusal as its number."""
+    if answer[0] < 0:
+        assert len(answer) == 1
+        return answer[0]
+    texts = []
+    at = 1
+    while at < len(answer):
+        texts.append(words(answer[at + 1:at + 1 + answer[at]]))
+        at += 1 + answer[at]
+    assert at == len(answer)
+    return texts
